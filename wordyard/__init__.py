@@ -1,0 +1,1 @@
+"""Wordyard: patterns of words, and the one machine of each."""
