@@ -1,4 +1,8 @@
-"""Things that several tests hand in: patterns with their texts, and things that are no patterns."""
+"""Things that several tests hand in: patterns with their texts, things that are no patterns, and machines."""
+
+import itertools
+
+WIDES = (1, 2, 3)
 
 LEAVES = [(("none",), "none"), (("empty",), "empty"), (("any",), "any"), (("letter", 0), "letter 0")]
 
@@ -12,6 +16,18 @@ AROUND = [
     lambda part: ("or", ("none",), part),
     lambda part: ("and", part, ("letter", 0)),
     lambda part: ("and", ("letter", 0), part),
+]
+
+# What each of these puts ahead of the part's text and behind it.
+AROUND_TEXTS = [
+    ("not ", ""),
+    ("many ", ""),
+    ("then ", " any"),
+    ("then any ", ""),
+    ("or ", " none"),
+    ("or none ", ""),
+    ("and ", " letter 0"),
+    ("and letter 0 ", ""),
 ]
 
 
@@ -108,3 +124,46 @@ def no_patterns():
             pairs.extend([(around(("letter", k)), wide) for around in AROUND])
             pairs.extend([(inside(("letter", k), around, 40), wide) for around in AROUND])
     return pairs
+
+
+def all_machines(wide, states):
+    """All machines of so many letters and states."""
+    steps = list(itertools.product(range(states), repeat=wide))
+    return itertools.product(itertools.product((0, 1), steps), repeat=states)
+
+
+def mixed_numbers(start):
+    """Numbers without end that look mixed, but are the same at each call."""
+    while True:
+        start = (start * 6364136223846793005 + 1442695040888963407) % 2 ** 64
+        yield start >> 33
+
+
+def some_machines(wide, states, many):
+    """So many mixed machines of so many letters and states."""
+    numbers = mixed_numbers(10 * states + wide)
+    machines = []
+    for _ in range(many):
+        machines.append(tuple((next(numbers) % 2, tuple(next(numbers) % states for _ in range(wide)))
+                              for _ in range(states)))
+    return machines
+
+
+def renumbered(machine, places):
+    """The same machine with each state k at another place, which is places[k]."""
+    states = [None] * len(machine)
+    for k, (good, steps) in enumerate(machine):
+        states[places[k]] = (good, tuple(places[step] for step in steps))
+    return tuple(states)
+
+
+def no_word(wide):
+    return ((0, (0,) * wide),)
+
+
+def each_word(wide):
+    return ((1, (0,) * wide),)
+
+
+def empty_word_alone(wide):
+    return ((1, (1,) * wide), (0, (1,) * wide))

@@ -2,10 +2,9 @@ import itertools
 import reprlib
 import unittest
 
-from samples import AROUND, LEAVES, NEVER_PATTERNS, deep_things, inside, no_patterns, patterns_with_texts
+from samples import (AROUND, LEAVES, NEVER_PATTERNS, WIDES, all_machines, deep_things, inside, no_patterns,
+                     patterns_with_texts)
 from wordyard.things import is_machine, is_pattern, is_word
-
-WIDES = (1, 2, 3)
 
 
 class Told(unittest.TestCase):
@@ -113,12 +112,6 @@ class Patterns(Told):
                     self.tells(is_pattern, around(deep), wide, False)
 
 
-def machines(wide, states):
-    """All machines of so many letters and states."""
-    steps = list(itertools.product(range(states), repeat=wide))
-    return itertools.product(itertools.product((0, 1), steps), repeat=states)
-
-
 def changed(machine, state, good, steps):
     """The machine with another good and other steps in one state."""
     return machine[:state] + ((good, steps),) + machine[state + 1:]
@@ -128,7 +121,7 @@ class Machines(Told):
     def test_all_machines_of_one_and_two_states(self):
         for wide in WIDES:
             for states in (1, 2):
-                for machine in machines(wide, states):
+                for machine in all_machines(wide, states):
                     self.tells(is_machine, machine, wide, True)
 
     def test_machines_of_more_states(self):

@@ -1,11 +1,9 @@
 import reprlib
 import unittest
 
-from samples import AROUND, LEAVES, inside, no_patterns, patterns_with_texts
+from samples import AROUND, AROUND_TEXTS, LEAVES, WIDES, inside, no_patterns, patterns_with_texts
 from wordyard.errors import NoPattern, NoRoom, NoText, YardError
 from wordyard.writing import written
-
-WIDES = (1, 2, 3)
 
 
 class Writing(unittest.TestCase):
@@ -44,12 +42,10 @@ class Writing(unittest.TestCase):
             self.assertIsInstance(written(pattern, 3), str)
 
     def test_in_forty_others(self):
-        ahead = ["not ", "many ", "then ", "then any ", "or ", "or none ", "and ", "and letter 0 "]
-        behind = ["", "", " any", "", " none", "", " letter 0", ""]
-        for place, around in enumerate(AROUND):
+        for around, (ahead, behind) in zip(AROUND, AROUND_TEXTS):
             for leaf, text in LEAVES:
                 for wide in WIDES:
-                    expected = ahead[place] * 40 + text + behind[place] * 40
+                    expected = ahead * 40 + text + behind * 40
                     self.assertEqual(written(inside(leaf, around, 40), wide), expected)
 
     def test_in_more_than_forty_others(self):
