@@ -1,4 +1,4 @@
-"""Words and machines reckoned straight from the document, without the program."""
+"""Words, patterns and machines reckoned straight from the document, without the program."""
 
 import itertools
 import unittest
@@ -26,6 +26,62 @@ def owns(machine, word):
 def words_had(machine, wide, size):
     """The words up to this length that the machine has."""
     return {word for word in words_up_to(wide, size) if owns(machine, word)}
+
+
+def one_behind_the_other(words, others, size):
+    """The words up to this length that are one of these with one of the others behind it."""
+    return {one + other for one in words for other in others if len(one) + len(other) <= size}
+
+
+def any_number(words, size):
+    """The words up to this length that are any number of these, one behind the other."""
+    found = {()}
+    more = found
+    while more:
+        more = one_behind_the_other(more, words, size) - found
+        found = found | more
+    return found
+
+
+def words_told(pattern, wide, size):
+    """The words up to this length that the pattern has, form by form."""
+    name = pattern[0]
+    if name == "none":
+        return set()
+    if name == "empty":
+        return {()}
+    if name == "letter":
+        return {word for word in words_up_to(wide, size) if word == (pattern[1],)}
+    if name == "any":
+        return {word for word in words_up_to(wide, size) if len(word) == 1}
+    parts = [words_told(part, wide, size) for part in pattern[1:]]
+    if name == "then":
+        return one_behind_the_other(parts[0], parts[1], size)
+    if name == "or":
+        return parts[0] | parts[1]
+    if name == "and":
+        return parts[0] & parts[1]
+    if name == "not":
+        return set(words_up_to(wide, size)) - parts[0]
+    if name == "many":
+        return any_number(parts[0], size)
+    raise KeyError(name)
+
+
+def names_within(pattern):
+    """The names of all the patterns within it, its own too."""
+    names = {pattern[0]}
+    if pattern[0] != "letter":
+        for part in pattern[1:]:
+            names |= names_within(part)
+    return names
+
+
+def most_others(pattern):
+    """In how many others the pattern lies that lies in the most of them, within this one."""
+    if pattern[0] == "letter":
+        return 0
+    return max([most_others(part) + 1 for part in pattern[1:]], default=0)
 
 
 def order_of_coming(machine):
@@ -71,6 +127,11 @@ def is_plain_machine(machine, wide):
         if not all(type(step) is int and 0 <= step < len(machine) for step in steps):
             return False
     return True
+
+
+def is_plain_word(word, wide):
+    """Whether it is a tuple of whole numbers of letters, which no truth is."""
+    return type(word) is tuple and all(type(letter) is int and 0 <= letter < wide for letter in word)
 
 
 class MachineCase(unittest.TestCase):

@@ -149,6 +149,16 @@ def some_machines(wide, states, many):
     return machines
 
 
+def some_finite_machines(wide, states, many):
+    """So many mixed machines that step on to later states alone, and in the last one stay for good."""
+    machines = []
+    for machine in some_machines(wide, states, many):
+        last = states - 1
+        ahead = [(good, tuple(min(last, k + 1 + step % 3) for step in steps)) for k, (good, steps) in enumerate(machine)]
+        machines.append(tuple(ahead[:last]) + ((0, (last,) * wide),))
+    return machines
+
+
 def renumbered(machine, places):
     """The same machine with each state k at another place, which is places[k]."""
     states = [None] * len(machine)
@@ -167,3 +177,48 @@ def each_word(wide):
 
 def empty_word_alone(wide):
     return ((1, (1,) * wide), (0, (1,) * wide))
+
+
+def several_machines(wide):
+    """All machines of one and of two states, and some larger ones; most of them are not least."""
+    machines = list(all_machines(wide, 1)) + list(all_machines(wide, 2))
+    for states in (3, 4, 5, 6):
+        machines.extend(some_machines(wide, states, 60))
+    return machines
+
+
+def long_chain(states):
+    """The one word of one letter that is shorter by two than the machine has states."""
+    return tuple([(0, (k + 1,)) for k in range(states - 2)]) + ((1, (states - 1,)), (0, (states - 1,)))
+
+
+def ring(states, goods):
+    """The words of one letter whose lengths, parted by so many states, leave one of these rests."""
+    return tuple((1 if k in goods else 0, ((k + 1) % states,)) for k in range(states))
+
+
+def otherwise_told(machine, wide):
+    """Machines that have the same words: each state twice, states in another order, one more that is not come to."""
+    states = len(machine)
+    twice = []
+    for turn in (0, 1):
+        for good, steps in machine:
+            twice.append((good, tuple(step + states * ((turn + k) % 2) for k, step in enumerate(steps))))
+    turned = [0] + list(range(states - 1, 0, -1))
+    return [tuple(twice), renumbered(machine, turned), machine + ((1, (0,) * wide), (0, (states,) * wide))]
+
+
+def some_patterns(wide, deep, many):
+    """So many mixed patterns of all nine forms, up to so deep."""
+    numbers = mixed_numbers(100 * deep + wide)
+    simple = [pattern for pattern, _ in simple_patterns(wide)]
+
+    def mixed(left):
+        if left == 0 or next(numbers) % 8 == 0:
+            return simple[next(numbers) % len(simple)]
+        name = ("then", "or", "and", "not", "many", "then")[next(numbers) % 6]
+        if name in ("not", "many"):
+            return (name, mixed(left - 1))
+        return (name, mixed(left - 1), mixed(left - 1))
+
+    return [mixed(deep) for _ in range(many)]

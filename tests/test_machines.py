@@ -3,8 +3,8 @@ import reprlib
 import unittest
 
 from reckoning import MachineCase, has_least_form, state_behind, words_had, words_up_to
-from samples import (WIDES, all_machines, deep_things, each_word, empty_word_alone, no_word, renumbered,
-                     some_machines)
+from samples import (WIDES, all_machines, deep_things, each_word, empty_word_alone, long_chain, no_word, renumbered,
+                     several_machines, some_machines)
 from wordyard.machines import behind, has, is_least, least
 
 # The words with an even number of the letter 0; those that end with letter 1; those of at most one letter.
@@ -23,18 +23,6 @@ SELF_PARTING = [
     (2, ((1, (5, 1)), (1, (0, 3)), (1, (4, 1)), (0, (0, 3)), (1, (4, 1)), (1, (0, 2)), (1, (5, 4)), (1, (0, 5)))),
     (2, ((1, (4, 6)), (1, (3, 5)), (1, (0, 5)), (1, (3, 5)), (1, (4, 4)), (0, (7, 4)), (1, (6, 3)), (1, (7, 3)))),
 ]
-
-
-def several_machines(wide):
-    machines = list(all_machines(wide, 1)) + list(all_machines(wide, 2))
-    for states in (3, 4, 5, 6):
-        machines.extend(some_machines(wide, states, 60))
-    return machines
-
-
-def long_chain(states):
-    """The words of one letter alone that are shorter by one than the machine has states."""
-    return tuple([(0, (k + 1,)) for k in range(states - 2)]) + ((1, (states - 1,)), (0, (states - 1,)))
 
 
 class Reading(unittest.TestCase):

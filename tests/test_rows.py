@@ -1,8 +1,8 @@
 import itertools
 import unittest
 
-from reckoning import MachineCase, words_had, words_up_to
-from samples import WIDES, all_machines, each_word, empty_word_alone, no_word, renumbered, some_machines
+from reckoning import MachineCase, any_number, one_behind_the_other, words_had, words_up_to
+from samples import WIDES, all_machines, each_word, empty_word_alone, no_word, renumbered, ring, some_machines
 from wordyard.machines import least
 from wordyard.rows import backward, joined, repeated
 
@@ -13,19 +13,6 @@ SIZES = {1: 14, 2: 7, 3: 5}
 ZERO = ((0, (1, 2)), (1, (2, 2)), (0, (2, 2)))
 ZEROS = ((0, (1, 2)), (1, (1, 2)), (0, (2, 2)))
 ENDING = ((0, (0, 1)), (1, (0, 1)))
-
-
-def one_behind_the_other(words, others, size):
-    return {one + other for one in words for other in others if len(one) + len(other) <= size}
-
-
-def any_number(words, size):
-    found = {()}
-    more = found
-    while more:
-        more = one_behind_the_other(more, words, size) - found
-        found = found | more
-    return found
 
 
 class Joined(MachineCase):
@@ -92,6 +79,16 @@ class Joined(MachineCase):
         self.assertEqual(repeated(alike, 2), each_word(2))
         self.assertEqual(backward(alike, 2), each_word(2))
 
+    def test_far_more_sets_of_states_than_are_needed(self):
+        # Letter 0 at some place, and behind it at least forty letters.
+        behind_zero = ((0, (1, 42)),) + tuple((0, (k + 2, k + 2)) for k in range(40)) + ((1, (41, 41)), (0, (42, 42)))
+        somewhere = ((0, (1, 0)),) + tuple((0, (k + 2, k + 2)) for k in range(40)) + ((1, (41, 41)),)
+        self.assertEqual(joined(each_word(2), behind_zero, 2), somewhere)
+
+    def test_many_states_none_of_which_has_all_words_of_another(self):
+        self.assertEqual(joined(ring(7, (0,)), ring(301, (0,)), 1), ring(7, (0,)))
+        self.assertEqual(joined(ring(301, (5,)), ring(301, (7,)), 1), ring(301, (12,)))
+
     def test_asked_again(self):
         for wide in WIDES:
             for one, other in zip(some_machines(wide, 3, 10), some_machines(wide, 4, 10)):
@@ -139,6 +136,11 @@ class Repeated(MachineCase):
             self.assertEqual(repeated(each_word(wide), wide), each_word(wide))
             one_letter = ((0, (1,) * wide), (1, (2,) * wide), (0, (2,) * wide))
             self.assertEqual(repeated(one_letter, wide), each_word(wide))
+
+    def test_many_states_none_of_which_has_all_words_of_another(self):
+        self.assertEqual(repeated(ring(301, (1, 5, 150)), 1), each_word(1))
+        self.assertEqual(repeated(ring(301, (0,)), 1), ring(301, (0,)))
+        self.assertEqual(repeated(ring(300, (30,)), 1), ring(30, (0,)))
 
     def test_repeated_twice(self):
         for wide in WIDES:

@@ -1,4 +1,4 @@
-"""Tells from which states of a machine on the same words are had."""
+"""Tells from which states of a machine on the same words are had, and from which all words of another state."""
 
 
 def sources_by(machine, letter):
@@ -69,3 +69,47 @@ def firsts_alike(machine):
     for state, group in enumerate(groups.group_of):
         firsts.setdefault(group, state)
     return [firsts[group] for group in groups.group_of]
+
+
+class Covers:
+    # A pair of states is covered if each word that is had from the first on is had from the second
+    # on too. Pairs are asked one by one as they come up, since most of them never do.
+    def __init__(self, machine):
+        self.machine = machine
+        self.known = {}
+
+    def is_refuted(self, pair):
+        return self.known.get(pair) is False or self.machine[pair[0]][0] > self.machine[pair[1]][0]
+
+    def steps_to_ask(self, pair):
+        steps = list(zip(self.machine[pair[0]][1], self.machine[pair[1]][1]))
+        return [step for step in steps if step[0] != step[1] and self.known.get(step) is not True]
+
+    def refute(self, pair, comings):
+        # The word that tells against this pair tells, some letters longer, against those it was come to by.
+        while pair is not None:
+            self.known[pair] = False
+            pair = comings[pair]
+
+    def find_out(self, start):
+        comings = {start: None}
+        pairs = [start]
+        place = 0
+        while place < len(pairs):
+            pair = pairs[place]
+            if self.is_refuted(pair):
+                self.refute(pair, comings)
+                return
+            for step in self.steps_to_ask(pair):
+                if step not in comings:
+                    comings[step] = pair
+                    pairs.append(step)
+            place += 1
+        # All that can be come to has been gone through, and no word tells against any of it.
+        for pair in pairs:
+            self.known[pair] = True
+
+    def covered(self, pair):
+        if pair not in self.known:
+            self.find_out(pair)
+        return self.known[pair]
